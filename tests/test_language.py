@@ -1,0 +1,154 @@
+"""Tests that the package keeps to the rules of its language that can be read off the code, and to its interface."""
+
+import ast
+import builtins
+import unittest
+from pathlib import Path
+
+PACKAGE = Path(__file__).resolve().parent.parent / "safepatch"
+LIBRARY = {
+    "heapq": {"heappush", "heappop", "heapify", "heapreplace", "heappushpop"},
+    "math": {"gcd", "lcm", "isqrt", "comb", "perm", "factorial"},
+    "itertools": {
+        "product", "combinations", "permutations", "chain", "accumulate", "pairwise", "islice", "zip_longest",
+    },
+    "collections": {"defaultdict"},
+}
+BUILTINS = set(
+    "len range enumerate zip min max sum abs sorted reversed int str bool list tuple dict set isinstance ord repr"
+    " any all divmod pow property ValueError KeyError ZeroDivisionError iter next map super".split()
+)
+BARRED = set(
+    "register mro elements open input law version_info with_traceback add_note eval exec globals locals vars dir id"
+    " type typing enum dataclass namedtuple abstractmethod".split()
+)
+NODES_BARRED = (ast.AsyncFunctionDef, ast.Await, ast.Global, ast.Import, ast.Div, ast.AsyncFor, ast.AsyncWith)
+# What the interface lists for each file: functions, and classes with their properties and methods.
+INTERFACE = {
+    "errors": {
+        "PatchError": [], "BadFile": ["__init__"], "BadWrite": [], "BadGoal": [], "BadWrites": ["__init__"],
+        "NoChange": [], "TooLarge": [], "BadTexts": ["__init__"], "BadLayout": [], "BadEdit": [],
+        "NothingDone": [], "BadText": ["__init__"],
+    },
+    "files": {
+        "File": [
+            "__init__", "letters", "pieces", "order", "piece_price", "order_price", "torn", "text", "used", "spare",
+            "__len__", "__eq__",
+        ],
+    },
+    "writes": {
+        name: None
+        for name in "all_writes is_write after torn_texts is_safe safe_writes apply cost_of".split()
+    },
+}
+
+
+def sources():
+    """Return the path and the text of each file of the package."""
+    return [(path, path.read_text(encoding="utf-8")) for path in sorted(PACKAGE.rglob("*.py"))]
+
+
+def nodes():
+    """Return the name of the file and the node, for all nodes of all files."""
+    return [(path.name, node) for path, source in sources() for node in ast.walk(ast.parse(source))]
+
+
+def functions():
+    """Return the name of the file and the node, for all functions and methods."""
+    return [(name, node) for name, node in nodes() if isinstance(node, ast.FunctionDef)]
+
+
+def bound_names(node):
+    """Return the names that a node binds, in any way."""
+    if isinstance(node, ast.Name):
+        return [node.id] if isinstance(node.ctx, ast.Store) else []
+    if isinstance(node, ast.arg):
+        return [node.arg]
+    if isinstance(node, (ast.FunctionDef, ast.ClassDef)):
+        return [node.name]
+    if isinstance(node, ast.alias):
+        return [node.asname or node.name]
+    return []
+
+
+class FilesTest(unittest.TestCase):
+    def test_the_folder_holds_nothing_else(self):
+        found = [path for path in PACKAGE.rglob("*") if "__pycache__" not in path.parts]
+        self.assertEqual([path for path in found if path.is_file() and path.suffix != ".py"], [])
+        for folder in [PACKAGE] + [path for path in found if path.is_dir()]:
+            self.assertTrue((folder / "__init__.py").is_file())
+
+    def test_sizes_and_characters(self):
+        for path, source in sources():
+            lines = source.split("\n")
+            self.assertLessEqual(len(lines) - 1, 399, path)
+            for row, line in enumerate(lines, 1):
+                self.assertLessEqual(len(line), 120, (path, row))
+                self.assertTrue(all(" " <= letter <= "~" for letter in line), (path, row))
+
+    def test_functions_have_at_most_forty_lines(self):
+        for name, node in functions():
+            self.assertLessEqual(node.end_lineno - node.lineno + 1, 40, (name, node.name))
+
+
+class NamesTest(unittest.TestCase):
+    def test_imports(self):
+        for name, node in nodes():
+            if isinstance(node, ast.ImportFrom):
+                with self.subTest(file=name, line=node.lineno):
+                    self.assertEqual(node.level, 0)
+                    self.assertTrue(all(item.asname is None for item in node.names))
+                    if node.module in LIBRARY:
+                        self.assertLessEqual({item.name for item in node.names}, LIBRARY[node.module])
+                    else:
+                        self.assertTrue(node.module.startswith("safepatch."))
+
+    def test_only_the_builtins_of_the_language(self):
+        for name, node in nodes():
+            if isinstance(node, ast.Name) and hasattr(builtins, node.id):
+                self.assertIn(node.id, BUILTINS, (name, node.lineno))
+
+    def test_names_that_are_bound(self):
+        for name, node in nodes():
+            for bound in [word for word in bound_names(node) if not word.startswith("__")]:
+                with self.subTest(file=name, name=bound):
+                    self.assertFalse(hasattr(builtins, bound))
+                    self.assertNotIn(bound, BARRED)
+
+    def test_no_percent_sign_in_a_string(self):
+        for name, node in nodes():
+            if isinstance(node, ast.Constant) and isinstance(node.value, str):
+                self.assertNotIn("%", node.value, (name, node.lineno))
+
+
+class StatementsTest(unittest.TestCase):
+    def test_no_node_that_is_barred(self):
+        for name, node in nodes():
+            self.assertNotIsInstance(node, NODES_BARRED, name)
+            self.assertNotIsInstance(getattr(node, "value", None), float, name)
+
+    def test_no_generator_expression_beside_an_equality(self):
+        for name, node in nodes():
+            self.assertNotIsInstance(node, ast.GeneratorExp, (name, getattr(node, "lineno", None)))
+
+    def test_decorators_are_properties(self):
+        for name, node in nodes():
+            for decorator in getattr(node, "decorator_list", []):
+                self.assertEqual(ast.unparse(decorator), "property", (name, node.name))
+
+
+class InterfaceTest(unittest.TestCase):
+    def test_all_is_defined_where_the_interface_lists_it(self):
+        for module, listed in INTERFACE.items():
+            body = ast.parse((PACKAGE / f"{module}.py").read_text(encoding="utf-8")).body
+            defined = {node.name: node for node in body if isinstance(node, (ast.FunctionDef, ast.ClassDef))}
+            for name, methods in listed.items():
+                with self.subTest(module=module, name=name):
+                    self.assertIn(name, defined)
+                    self.assertIs(isinstance(defined[name], ast.FunctionDef), methods is None)
+                    found = [node.name for node in defined[name].body if isinstance(node, ast.FunctionDef)]
+                    self.assertLessEqual(set(methods or []), set(found))
+
+
+if __name__ == "__main__":
+    unittest.main()
