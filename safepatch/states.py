@@ -73,13 +73,17 @@ def all_orders(blocks):
     return contents((), [(block,) for block in range(blocks)], ORDER_BLOCKS)
 
 
+def every_write(letters, blocks):
+    """Return the list of all writes, also those that may change nothing, in the order of [3]."""
+    choices = all_pieces(letters)
+    found = [("piece", block, new) for block in range(blocks) for new in choices]
+    found.extend([("order", new) for new in all_orders(blocks)])
+    return found
+
+
 def state_writes(letters, state):
     """Return the list of all writes that change something in a state, in the order of [3]."""
-    pieces, order = state
-    choices = all_pieces(letters)
-    found = [("piece", block, new) for block, old in enumerate(pieces) for new in choices if new != old]
-    found.extend([("order", new) for new in all_orders(len(pieces)) if new != order])
-    return found
+    return [write for write in every_write(letters, len(state[0])) if write[-1] != old_content(state, write)]
 
 
 def state_text(state):
@@ -110,11 +114,15 @@ def state_after(state, write):
     return put_content(state, write, write[-1])
 
 
+def torn_contents(old, new):
+    """Return the list of the contents that a torn write of a new one over an old one can leave, in order."""
+    return [new[:count] + old[count:] for count in range(len(new))]
+
+
 def torn_states(state, write):
     """Return the list of the states that a write can leave if it is torn, in the order of [4]."""
-    old = old_content(state, write)
-    new = write[-1]
-    return [put_content(state, write, new[:count] + old[count:]) for count in range(len(new))]
+    left = torn_contents(old_content(state, write), write[-1])
+    return [put_content(state, write, content) for content in left]
 
 
 def state_readings(state, write, torn):

@@ -2,6 +2,7 @@
 
 from safepatch.errors import BadWrite, BadWrites
 from safepatch.files import check_file, check_goal, file_at, file_state
+from safepatch.moves import Moves
 from safepatch.states import is_safe_write, is_state_write, state_after, state_readings, state_writes
 
 
@@ -43,8 +44,7 @@ def safe_writes(file, text):
     """Return the list of the safe writes that change something, in the order of [3]."""
     check_file(file)
     check_goal(file, text)
-    state = file_state(file)
-    return [write for write in state_writes(file.letters, state) if is_safe_write(state, write, file.torn, text)]
+    return [move[0] for move in Moves(file).safe(file_state(file), (file.text, text))]
 
 
 def apply(file, writes):

@@ -22,6 +22,14 @@ BARRED = set(
     "register mro elements open input law version_info with_traceback add_note eval exec globals locals vars dir id"
     " type typing enum dataclass namedtuple abstractmethod".split()
 )
+# A doctest that has run before puts `_` among the builtins.
+ALL_BUILTINS = set(dir(builtins)) - {"_"}
+# The methods of builtin values that the package may call.
+METHODS = set(
+    "append clear copy count endswith extend find get index insert isalnum isalpha isdigit islower isspace isupper items"
+    " join keys ljust lower lstrip partition pop remove replace reverse rfind rjust rpartition rsplit rstrip setdefault"
+    " split splitlines startswith strip update upper values zfill bit_length".split()
+)
 NODES_BARRED = (ast.AsyncFunctionDef, ast.Await, ast.Global, ast.Import, ast.Div, ast.AsyncFor, ast.AsyncWith)
 # What the interface lists for each file: functions, and classes with their properties and methods.
 INTERFACE = {
@@ -40,6 +48,15 @@ INTERFACE = {
         name: None
         for name in "all_writes is_write after torn_texts is_safe safe_writes apply cost_of".split()
     },
+    "plans": {
+        "Plan": ["__init__", "__eq__", "shows"], "NoPlan": ["__init__", "__eq__", "shows"], "plan": None,
+        "least_cost": None, "can_change": None, "musts": None, "is_change": None,
+    },
+    "tours": {
+        "Tour": ["__init__", "__eq__", "shows"], "NoTour": ["__init__", "__eq__", "shows"], "tour": None,
+        "tour_cost": None, "alone": None,
+    },
+    "texts": {"file_text": None, "read_file": None, "writes_text": None, "read_writes": None},
 }
 
 
@@ -105,15 +122,25 @@ class NamesTest(unittest.TestCase):
 
     def test_only_the_builtins_of_the_language(self):
         for name, node in nodes():
-            if isinstance(node, ast.Name) and hasattr(builtins, node.id):
+            if isinstance(node, ast.Name) and node.id in ALL_BUILTINS:
                 self.assertIn(node.id, BUILTINS, (name, node.lineno))
 
     def test_names_that_are_bound(self):
         for name, node in nodes():
             for bound in [word for word in bound_names(node) if not word.startswith("__")]:
                 with self.subTest(file=name, name=bound):
-                    self.assertFalse(hasattr(builtins, bound))
+                    self.assertNotIn(bound, ALL_BUILTINS)
                     self.assertNotIn(bound, BARRED)
+
+    def test_no_variable_has_the_name_of_an_import_or_a_class(self):
+        for path, source in sources():
+            tree = ast.parse(source)
+            taken = [name for node in ast.walk(tree) if isinstance(node, (ast.alias, ast.ClassDef))
+                     for name in bound_names(node)]
+            found = [name for node in ast.walk(tree) if isinstance(node, (ast.Name, ast.arg, ast.FunctionDef))
+                     for name in bound_names(node)]
+            self.assertEqual(set(taken) & set(found), set(), path)
+            self.assertEqual(len(taken), len(set(taken)), path)
 
     def test_no_percent_sign_in_a_string(self):
         for name, node in nodes():
@@ -131,10 +158,26 @@ class StatementsTest(unittest.TestCase):
         for name, node in nodes():
             self.assertNotIsInstance(node, ast.GeneratorExp, (name, getattr(node, "lineno", None)))
 
+    def test_methods_are_own_ones_or_those_of_the_language(self):
+        own = {node.name for _, owner in nodes() if isinstance(owner, ast.ClassDef) for node in owner.body
+               if isinstance(node, ast.FunctionDef)}
+        for name, node in nodes():
+            if isinstance(node, ast.Call) and isinstance(node.func, ast.Attribute):
+                self.assertIn(node.func.attr, METHODS | own, (name, node.lineno))
+
     def test_decorators_are_properties(self):
         for name, node in nodes():
             for decorator in getattr(node, "decorator_list", []):
                 self.assertEqual(ast.unparse(decorator), "property", (name, node.name))
+
+
+class AttributesTest(unittest.TestCase):
+    def test_no_attribute_has_the_name_of_a_property_or_a_method(self):
+        methods = {node.name for _, owner in nodes() if isinstance(owner, ast.ClassDef) for node in owner.body
+                   if isinstance(node, ast.FunctionDef)}
+        for name, node in nodes():
+            if isinstance(node, ast.Attribute) and isinstance(node.ctx, ast.Store):
+                self.assertNotIn(node.attr, methods, (name, node.lineno))
 
 
 class InterfaceTest(unittest.TestCase):

@@ -1,6 +1,5 @@
 """Tests of safepatch.writes: writes ([3]), their readings ([4]), and which of them are safe ([5])."""
 
-import doctest
 import unittest
 from itertools import product
 
@@ -8,7 +7,12 @@ from safepatch.errors import BadFile, BadGoal, BadWrite, BadWrites
 from safepatch.files import File
 from safepatch.writes import after, all_writes, apply, cost_of, is_safe, is_write, safe_writes, torn_texts
 from tests.samples import (
+    FILE,
+    NOT_FILES,
+    NOT_TEXTS,
+    NOT_WRITES,
     OTHER_KINDS,
+    Case,
     near_texts,
     parts,
     plain_after,
@@ -29,83 +33,6 @@ EXAMPLE = """
 [['abb', [2], 57, [('piece', 0, ''), ('piece', 0, 'a'), ('piece', 0, 'b')], ['abb', 'bbb', 'bab'], ['abb', 'bb', 'bab']], [False, True, [('piece', 0, 'a'), ('piece', 1, '')], [('order', (0,)), ('order', (0, 2))], 'b'], 'aa', 3]
 """
 
-FILE = File("ab", ("ab", "b", ""), (0, 1), piece_price=2, order_price=5, torn=True)
-
-# What is not a write of FILE that changes something.
-NOT_WRITES = [
-    *OTHER_KINDS,
-    "",
-    "piece",
-    "or",
-    "abc",
-    (),
-    [],
-    ("piece",),
-    ("order",),
-    ("piece", 0),
-    ("piece", "a"),
-    ("piece", 0, "a", "b"),
-    ("order", (0,), (1,)),
-    ("order", 0, "a"),
-    ("order", 0),
-    ["piece", 0, "a"],
-    ["order", (0,)],
-    ("Piece", 0, "a"),
-    ("ORDER", (0,)),
-    ("pieces", 0, "a"),
-    (b"piece", 0, "a"),
-    (b"order", (0,)),
-    (None, 0, "a"),
-    (0, 0, "a"),
-    (["piece"], 0, "a"),
-    ({}, (0,)),
-    (True, (0,)),
-    ("piece", 3, "a"),
-    ("piece", -1, "a"),
-    ("piece", 10**30, "a"),
-    ("piece", True, "a"),
-    ("piece", False, "a"),
-    ("piece", "0", "a"),
-    ("piece", None, "a"),
-    ("piece", (0,), "a"),
-    ("piece", [0], "a"),
-    ("piece", {}, "a"),
-    ("piece", 0, "aaa"),
-    ("piece", 0, "c"),
-    ("piece", 0, "A"),
-    ("piece", 0, "a "),
-    ("piece", 0, "-"),
-    ("piece", 0, None),
-    ("piece", 0, b"a"),
-    ("piece", 0, 0),
-    ("piece", 0, True),
-    ("piece", 0, ("a",)),
-    ("piece", 0, ["a"]),
-    ("order", [0]),
-    ("order", []),
-    ("order", "0"),
-    ("order", ""),
-    ("order", None),
-    ("order", (0, 0, 0, 0)),
-    ("order", (3,)),
-    ("order", (0, -1)),
-    ("order", (True,)),
-    ("order", (False,)),
-    ("order", (1, False)),
-    ("order", ("0",)),
-    ("order", (None,)),
-    ("order", ((0,),)),
-    ("order", ([0],)),
-    ("order", ({},)),
-    # These change nothing.
-    ("piece", 0, "ab"),
-    ("piece", 1, "b"),
-    ("piece", 2, ""),
-    ("order", (0, 1)),
-]
-NOT_TEXTS = [*OTHER_KINDS, "c", "abc", "A", " ", "a\n", "-", "aaaaaaa", "abababa", b"", ("a",), ["a", "b"], ()]
-NOT_FILES = [*OTHER_KINDS, "ab", (("ab", "b", ""), (0, 1)), [FILE], (FILE,)]
-
 
 class Copied(tuple):
     """A tuple of another class, which is a tuple all the same."""
@@ -118,24 +45,12 @@ class Alike:
         return True
 
 
-class WritesCase(unittest.TestCase):
-    def assert_refused(self, error, function, *arguments):
-        before = parts(FILE)
-        with self.assertRaises(error) as caught:
-            function(*arguments)
-        self.assertIs(caught.exception.__class__, error)
-        self.assertEqual(parts(FILE), before)
-        return caught.exception
-
-
-class ExampleTest(unittest.TestCase):
+class ExampleTest(Case):
     def test_the_example_of_the_interface(self):
-        example = doctest.DocTestParser().get_doctest(EXAMPLE, {}, "writes", None, None)
-        self.assertEqual(len(example.examples), 6)
-        self.assertEqual(doctest.DocTestRunner().run(example).failed, 0)
+        self.assert_example(EXAMPLE, 6)
 
 
-class AllWritesTest(WritesCase):
+class AllWritesTest(Case):
     def test_held_against_a_plain_list(self):
         for file in sample_files():
             with self.subTest(parts(file)):
@@ -163,7 +78,7 @@ class AllWritesTest(WritesCase):
             self.assertIsNone(self.assert_refused(BadFile, all_writes, value).part)
 
 
-class IsWriteTest(WritesCase):
+class IsWriteTest(Case):
     def test_all_writes_are(self):
         for file in sample_files():
             for write in plain_writes(file):
@@ -208,7 +123,7 @@ class IsWriteTest(WritesCase):
                 self.assertIsNone(self.assert_refused(BadFile, is_write, value, write).part)
 
 
-class AfterTest(WritesCase):
+class AfterTest(Case):
     def test_all_writes(self):
         for file in sample_files():
             before = parts(file)
@@ -229,7 +144,7 @@ class AfterTest(WritesCase):
                 self.assert_refused(BadWrite, after, FILE, write)
 
 
-class TornTextsTest(WritesCase):
+class TornTextsTest(Case):
     def test_held_against_plain_readings(self):
         for file in sample_files():
             for write in plain_writes(file):
@@ -290,7 +205,7 @@ class TornTextsTest(WritesCase):
                 self.assert_refused(BadWrite, torn_texts, FILE, write)
 
 
-class SafeTest(WritesCase):
+class SafeTest(Case):
     def test_held_against_the_readings(self):
         for file in sample_files():
             readings = [(write, plain_readings(file, write)) for write in plain_writes(file)]
@@ -361,7 +276,7 @@ class SafeTest(WritesCase):
         self.assert_refused(BadGoal, safe_writes, File("ab", ("a",), ()), "c")
 
 
-class ApplyTest(WritesCase):
+class ApplyTest(Case):
     def test_one_write_at_a_time(self):
         for file in sample_files():
             for write in plain_writes(file):
