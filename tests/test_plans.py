@@ -311,7 +311,7 @@ class PlanShowsTest(Case):
                 found = plan(plain.file, text)
                 for _ in range(8):
                     floors = {state: answer - at - chance.choice([0, 0, 0, 1]) for (_, state), at in costs.items()}
-                    floors[found_start(plain)] = answer
+                    floors[plain.start[1]] = answer
                     shown.append(self.assert_as_plain(plain, text, found.writes, floors))
         self.assertEqual(set(shown), {True, False})
 
@@ -353,11 +353,6 @@ class PlanShowsTest(Case):
                 floors = {other: floor for other in plan(TORN, "ba").floors}
                 self.assertFalse(Plan(dearer, floors).shows(TORN, "ba"))
                 self.assertFalse(Plan(dearer, {**floors, state: floor + 1}).shows(TORN, "ba"))
-
-
-def found_start(plain):
-    """Return the state of a plain file."""
-    return plain.start[1]
 
 
 class NoPlanShowsTest(Case):

@@ -5,7 +5,7 @@ import unittest
 from functools import lru_cache
 from unittest.mock import patch
 
-from safepatch.errors import TooLarge
+from safepatch.errors import NoChange, TooLarge
 from safepatch.files import File
 from safepatch.moves import Moves
 from safepatch.plans import NoPlan, can_change, least_cost, musts, plan
@@ -84,6 +84,10 @@ class LimitTest(Case):
                 found = plan(file, text)
                 self.assertIs(found.__class__ is NoPlan, cost is None)
                 self.assertTrue(found.shows(file, text))
+                if cost is None:
+                    self.assert_refused(NoChange, musts, file, text)
+                else:
+                    self.assertLessEqual(set(musts(file, text)), set(found.writes))
 
     def test_spots_at_below_and_beyond_the_limit(self):
         for file, texts, many, cost in SPOTS:
