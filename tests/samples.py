@@ -107,6 +107,13 @@ NOT_TEXTS = [*OTHER_KINDS, "c", "abc", "A", " ", "a\n", "-", "aaaaaaa", "abababa
 NOT_FILES = [*OTHER_KINDS, "ab", (("ab", "b", ""), (0, 1)), [FILE], (FILE,)]
 
 
+class Alike:
+    """What claims to be equal to everything."""
+
+    def __eq__(self, other):
+        return True
+
+
 class Case(unittest.TestCase):
     """What several tests assert."""
 

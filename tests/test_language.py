@@ -3,6 +3,8 @@
 import ast
 import builtins
 import unittest
+from importlib import import_module
+from inspect import signature
 from pathlib import Path
 
 PACKAGE = Path(__file__).resolve().parent.parent / "safepatch"
@@ -56,7 +58,42 @@ INTERFACE = {
         "Tour": ["__init__", "__eq__", "shows"], "NoTour": ["__init__", "__eq__", "shows"], "tour": None,
         "tour_cost": None, "alone": None,
     },
+    "tidying": {
+        "Tidying": ["__init__", "__eq__", "shows"], "NoTidying": ["__init__", "__eq__", "shows"], "tidy": None,
+        "tidy_cost": None, "orders_of_text": None,
+    },
+    "crashes": {name: None for name in "crashes forward backward worst".split()},
+    "spares": {name: None for name in "spare_costs fewest_spares best_spares".split()},
+    "sessions": {
+        "Session": ["__init__", "current", "aim", "journal", "__len__", "edit", "undo", "branch", "trial", "tried"],
+    },
     "texts": {"file_text": None, "read_file": None, "writes_text": None, "read_writes": None},
+}
+# The arguments that the interface lists, without the object itself.
+ARGUMENTS = {
+    "files": ["File letters pieces order piece_price order_price torn", "File.used", "File.spare"],
+    "writes": [
+        "all_writes file", "is_write file value", "after file write", "torn_texts file write", "is_safe file write text",
+        "safe_writes file text", "apply file writes", "cost_of file writes",
+    ],
+    "plans": [
+        "plan file text", "least_cost file text", "can_change file text", "Plan writes floors", "NoPlan states",
+        "Plan.shows file text", "NoPlan.shows file text", "musts file text", "is_change file text writes",
+    ],
+    "tours": [
+        "tour file texts", "tour_cost file texts", "Tour parts floors", "NoTour spots", "Tour.shows file texts",
+        "NoTour.shows file texts", "alone file texts",
+    ],
+    "tidying": [
+        "tidy file layout", "tidy_cost file layout", "Tidying writes floors", "NoTidying states",
+        "Tidying.shows file layout", "NoTidying.shows file layout", "orders_of_text file",
+    ],
+    "crashes": [f"{name} file text writes" for name in "crashes forward backward worst".split()],
+    "spares": [f"{name} file text" for name in "spare_costs fewest_spares best_spares".split()],
+    "sessions": [
+        "Session file", "Session.edit edit", "Session.undo", "Session.branch", "Session.trial", "Session.tried edits",
+    ],
+    "texts": ["file_text file", "read_file lines", "writes_text file writes", "read_writes file lines"],
 }
 
 
@@ -191,6 +228,25 @@ class InterfaceTest(unittest.TestCase):
                     self.assertIs(isinstance(defined[name], ast.FunctionDef), methods is None)
                     found = [node.name for node in defined[name].body if isinstance(node, ast.FunctionDef)]
                     self.assertLessEqual(set(methods or []), set(found))
+
+    def test_the_files_are_those_of_the_interface(self):
+        self.assertEqual(set(ARGUMENTS) | {"errors"}, set(INTERFACE))
+        for module in INTERFACE:
+            self.assertTrue((PACKAGE / f"{module}.py").is_file())
+
+    def test_arguments(self):
+        for module, listed in ARGUMENTS.items():
+            found = import_module(f"safepatch.{module}")
+            for line in listed:
+                path, *names = line.split()
+                with self.subTest(module=module, path=path):
+                    value = found
+                    for name in path.split("."):
+                        value = getattr(value, name)
+                    parameters = list(signature(value).parameters.values())
+                    self.assertEqual([one.name for one in parameters if one.name != "self"], names)
+                    keyword_only = [one.name for one in parameters if one.kind is one.KEYWORD_ONLY]
+                    self.assertEqual(keyword_only, names[3:] if path == "File" else [])
 
 
 if __name__ == "__main__":

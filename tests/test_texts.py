@@ -22,13 +22,17 @@ from tests.samples import (
     words,
 )
 
-# Of the example of the interface, what needs only files and texts.
+# The example of the interface, as it stands there.
 EXAMPLE = r"""
 >>> from safepatch.files import File
+>>> from safepatch.sessions import Session
+>>> from safepatch.spares import best_spares, fewest_spares, spare_costs
 >>> from safepatch.texts import file_text, read_writes, writes_text
 >>> file = File('ab', ('a', 'b'), (0, 1), order_price=2, torn=True)
->>> [file_text(file), writes_text(file, [('piece', 1, ''), ('order', ())]), read_writes(file, 'order 1 1\n')]
-['letters ab\npiece a\npiece b\norder 0 1\npiece_price 1\norder_price 2\ntorn yes\n', 'piece 1 -\norder -\n', [('order', (1, 1))]]
+>>> session = Session(file)
+>>> found = [session.edit(('aim', 'a')), session.edit(('write', ('order', (1, 0)))), session.tried([('write', ('order', (0,)))]), session.edit(('write', ('piece', 1, ''))), session.aim, session.undo()]
+>>> [found, session.current.text, file_text(file), writes_text(file, [('piece', 1, ''), ('order', ())]), read_writes(file, 'order 1 1\n'), spare_costs(file, 'ba'), fewest_spares(file, 'ba'), best_spares(file, 'a')]
+[[None, 'no', ['new'], 'new', None, (('write', ('piece', 1, '')), 'new')], 'ab', 'letters ab\npiece a\npiece b\norder 0 1\npiece_price 1\norder_price 2\ntorn yes\n', 'piece 1 -\norder -\n', [('order', (1, 1))], [None, 3, 3], 1, (0, 1)]
 """
 
 LINES = ["letters ab", "piece ab", "piece -", "piece b", "order 2 0", "piece_price 3", "order_price 5", "torn no"]
@@ -71,7 +75,7 @@ def broken(line):
 
 class ExampleTest(Case):
     def test_the_example_of_the_interface(self):
-        self.assert_example(EXAMPLE, 4)
+        self.assert_example(EXAMPLE, 8)
 
 
 class FileTextTest(Case):

@@ -12,6 +12,7 @@ from tests.samples import (
     NOT_TEXTS,
     NOT_WRITES,
     OTHER_KINDS,
+    Alike,
     Case,
     near_texts,
     parts,
@@ -36,13 +37,6 @@ EXAMPLE = """
 
 class Copied(tuple):
     """A tuple of another class, which is a tuple all the same."""
-
-
-class Alike:
-    """What claims to be equal to everything."""
-
-    def __eq__(self, other):
-        return True
 
 
 class ExampleTest(Case):
